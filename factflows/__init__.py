@@ -1,0 +1,1 @@
+"""Factflows: what a compiler's analyses tell of programs, compared."""

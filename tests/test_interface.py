@@ -1,0 +1,92 @@
+"""The interface: names, arguments and files, as the document lists them."""
+
+import importlib
+import inspect
+import unittest
+
+FUNCTIONS = {
+    "kinds": {"is_integer": "(thing)", "is_name": "(thing)", "is_word": "(thing)", "is_number": "(many, thing)"},
+    "joins": {"chain_joins": "(many)", "union_joins": "(many)", "first_fall": "(joins, values)",
+              "first_loss": "(joins, values)", "rising_maps": "(joins)", "all_joins": "(many)"},
+    "programs": {"line_program": "(word)"},
+    "facts": {"facts_of": "(analysis, program)", "is_solution": "(analysis, program, thing)"},
+    "rises": {"rise_of": "(analysis, program)", "is_rise": "(analysis, program, thing)"},
+    "paths": {"path_values": "(analysis, program, place)", "path_fact": "(analysis, program, place)",
+              "word_to": "(analysis, program, place, value)", "lost": "(analysis, program)",
+              "words_to": "(program, place, length)"},
+}
+
+CLASSES = {
+    ("errors", "FlowError"): {},
+    ("errors", "Wrong"): {"__init__": "(self, place)"},
+    ("errors", "BadJoin"): {"__init__": "(self, which)"},
+    ("errors", "NoRise"): {"__init__": "(self, name, low, high)"},
+    ("errors", "NoStatement"): {"__init__": "(self, name)"},
+    ("errors", "NoPlace"): {"__init__": "(self, place)"},
+    ("errors", "Unreached"): {"__init__": "(self, place)"},
+    ("errors", "Unlike"): {"__init__": "(self)"},
+    ("errors", "TooMany"): {"__init__": "(self, limit)"},
+    ("errors", "Absent"): {"__init__": "(self, value)"},
+    ("errors", "Full"): {"__init__": "(self, limit)"},
+    ("errors", "NoDeed"): {"__init__": "(self)"},
+    ("errors", "Nothing"): {"__init__": "(self)"},
+    ("errors", "Refused"): {"__init__": "(self, deed)"},
+    ("errors", "NoEntry"): {"__init__": "(self, at)"},
+    ("errors", "NoText"): {"__init__": "(self)"},
+    ("errors", "NoCommand"): {"__init__": "(self)"},
+    ("joins", "Joins"): {
+        "__init__": "(self, rows)", "__mul__": "(self, other)", "__eq__": "(self, other)", "__len__": "(self)",
+        "__repr__": "(self)", "rows": "(self)", "join": "(self, u, v)", "join_all": "(self, values)",
+        "is_below": "(self, u, v)", "below": "(self, u)", "above": "(self, u)", "top": "(self)", "bottom": "(self)",
+        "meet": "(self, u, v)", "covers": "(self)", "height": "(self)", "parts": "(self)",
+        "closed": "(self, values)", "moved": "(self, order)"},
+    ("analyses", "Analysis"): {
+        "__init__": "(self, joins, maps, *, begin=0)", "__mul__": "(self, other)", "__eq__": "(self, other)",
+        "__len__": "(self)", "__repr__": "(self)", "joins": property, "begin": property, "statements": "(self)",
+        "map_of": "(self, name)", "do": "(self, word, *, value=None)", "without": "(self, names)",
+        "unkept": "(self)", "coming": "(self)", "word_values": "(self)", "restricted": "(self)",
+        "with_map": "(self, name, values)", "renamed": "(self, changes)", "moved": "(self, order)"},
+    ("programs", "Program"): {
+        "__init__": "(self, places, begins, edges)", "__add__": "(self, other)", "__eq__": "(self, other)",
+        "__repr__": "(self)", "places": property, "begins": "(self)", "edges": "(self)", "statements": "(self)",
+        "into": "(self, place)", "out_of": "(self, place)", "reached": "(self)", "leading": "(self, asked)",
+        "with_edges": "(self, edges)", "without_edges": "(self, edges)", "with_begins": "(self, places)",
+        "turned": "(self, place)", "renamed": "(self, changes)", "moved": "(self, order)", "kept": "(self, places)"},
+}
+
+GENERATORS = [("joins", "rising_maps"), ("joins", "all_joins"), ("paths", "words_to")]
+
+
+def module(name):
+    return importlib.import_module(f"factflows.{name}")
+
+
+class InterfaceTest(unittest.TestCase):
+    def test_functions_stand_in_their_files(self):
+        for name, functions in FUNCTIONS.items():
+            for function, signature in functions.items():
+                thing = getattr(module(name), function)
+                self.assertTrue(inspect.isfunction(thing))
+                self.assertEqual(thing.__module__, f"factflows.{name}")
+                self.assertEqual(str(inspect.signature(thing)), signature, function)
+
+    def test_classes_stand_in_their_files_with_their_own_methods(self):
+        for (name, where), methods in CLASSES.items():
+            thing = getattr(module(name), where)
+            self.assertTrue(inspect.isclass(thing))
+            self.assertEqual(thing.__module__, f"factflows.{name}")
+            for method, signature in methods.items():
+                self.assertIn(method, vars(thing), where)
+                own = vars(thing)[method]
+                if signature is property:
+                    self.assertIsInstance(own, property)
+                else:
+                    self.assertEqual(str(inspect.signature(own)), signature, f"{where}.{method}")
+
+    def test_generators(self):
+        for name, function in GENERATORS:
+            self.assertTrue(inspect.isgeneratorfunction(getattr(module(name), function)))
+
+
+if __name__ == "__main__":
+    unittest.main()
