@@ -54,7 +54,9 @@ class File:
     def __init__(self, name, text):
         self.name = name
         self.text = text
-        self.tree = ast.parse(text)
+        with warnings.catch_warnings():
+            warnings.simplefilter("ignore")
+            self.tree = ast.parse(text)
         self.tree.above = None
         for node in ast.walk(self.tree):
             for child in ast.iter_child_nodes(node):

@@ -397,6 +397,11 @@ class ChangedTest(unittest.TestCase):
         for many, more in ((8, 8), (64, 1), (1, 64), (2, 32)):
             both = chain(many, "ba") * chain(more, "ab")
             self.assertEqual((len(both), both.do(("a",)), both.coming()), (64, 63, [0, 63]))
+        for thing in (2, None, fork(), "a", Program(1, [0], [])):
+            with self.assertRaises(TypeError):
+                some() * thing
+            with self.assertRaises(TypeError):
+                thing * some()
 
 
 class KeepsTest(unittest.TestCase):

@@ -272,6 +272,13 @@ class ProductTest(unittest.TestCase):
                     chain_joins(many) * chain_joins(more)
                 self.assertEqual(caught.exception.limit, 64)
 
+    def test_products_with_others_are_none(self):
+        for thing in (2, None, FORK, "a", Analysis(fork(), {})):
+            with self.assertRaises(TypeError):
+                fork() * thing
+            with self.assertRaises(TypeError):
+                thing * fork()
+
 
 class KeepsTest(unittest.TestCase):
     def test_asked_often(self):

@@ -243,6 +243,11 @@ class ChangedTest(unittest.TestCase):
             self.assertEqual(both.edges(), sorted(one.edges() + [(m + many, s, n + many) for m, s, n in other.edges()]))
         great = line_program(("a",) * 999) + line_program(("b",) * 999)
         self.assertEqual((great.places, great.begins()), (2000, [0, 1000]))
+        for thing in (2, None, [(0, "a", 0)], "a", Analysis(Joins([[0]]), {})):
+            with self.assertRaises(TypeError):
+                loop() + thing
+            with self.assertRaises(TypeError):
+                thing + loop()
 
     def test_lines(self):
         for word in ((), ("a",), ("a", "a", "b"), ("z", "y"), ("a",) * 40):
