@@ -1,6 +1,7 @@
 """Programs: places, begin places, and edges that bear statements [32] [33]."""
 
-from factflows.errors import NoPlace, Wrong
+from factflows.errors import Wrong
+from factflows.fits import check_place
 from factflows.kinds import is_name, is_number
 
 MOST_PLACES = 2000
@@ -86,10 +87,6 @@ class Program:
         edges = self._edges + [(m + many, s, n + many) for m, s, n in other._edges]
         return Program(many + other._places, begins, edges)
 
-    def _check(self, place):
-        if not is_number(self._places, place):
-            raise NoPlace(place)
-
     def begins(self):
         """The begin places."""
         return list(self._begins)
@@ -104,12 +101,12 @@ class Program:
 
     def into(self, place):
         """The tuples (m, s) of the edges that lead to a place."""
-        self._check(place)
+        check_place(self, place)
         return list(self._into[place])
 
     def out_of(self, place):
         """The tuples (s, n) of the edges that lead from a place."""
-        self._check(place)
+        check_place(self, place)
         return list(self._out[place])
 
     def reached(self):
@@ -136,7 +133,7 @@ class Program:
 
     def turned(self, place):
         """The Program with each edge turned, and with one begin place."""
-        self._check(place)
+        check_place(self, place)
         return Program(self._places, [place], [(n, s, m) for m, s, n in self._edges])
 
     def renamed(self, changes):
