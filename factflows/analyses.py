@@ -25,6 +25,26 @@ def _paired(ours, theirs):
     return [u * many + v for u in ours for v in theirs]
 
 
+def found_values(joins, maps, begin):
+    """The values that come, in the order in which they are found.
+
+    What the statements, ascending, do to a value, and then its joins with those ahead of it, are
+    looked at value by value: so the order is the same however the values are numbered.
+    """
+    found = {begin: True}
+    values = [begin]
+    at = 0
+    while at < len(values):
+        made = [maps[name][values[at]] for name in maps]
+        joined = [joins.join(value, values[at]) for value in values[:at]]
+        for value in made + joined:
+            if value not in found:
+                found[value] = True
+                values.append(value)
+        at += 1
+    return values
+
+
 class Analysis:
     """A table of values with a begin, and what each statement takes the values to."""
 
@@ -104,18 +124,7 @@ class Analysis:
 
     def coming(self):
         """The values that are facts in some program."""
-        found = {self._begin: True}
-        values = [self._begin]
-        at = 0
-        while at < len(values):
-            made = [self._maps[name][values[at]] for name in self._maps]
-            joined = [self._joins.join(value, values[at]) for value in values[:at]]
-            for value in made + joined:
-                if value not in found:
-                    found[value] = True
-                    values.append(value)
-            at += 1
-        return sorted(values)
+        return sorted(found_values(self._joins, self._maps, self._begin))
 
     def word_values(self):
         """The tuples (value, word) of what words make of the begin, with the least shortest words."""

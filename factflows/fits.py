@@ -1,6 +1,6 @@
-"""What is asked of an analysis, a program and a place that are taken together [4]."""
+"""What is asked of analyses, programs and places that are taken together [4]."""
 
-from factflows.errors import NoPlace, NoStatement
+from factflows.errors import NoPlace, NoStatement, Unlike, Unreached
 from factflows.kinds import is_number
 
 
@@ -18,6 +18,22 @@ def check_place(program, place):
         raise NoPlace(place)
 
 
+def check_places(one, place, other, there):
+    """Raise NoPlace, then Unreached, for the first of two places of two programs that is not there."""
+    check_place(one, place)
+    check_place(other, there)
+    if place not in one.reached():
+        raise Unreached(place)
+    if there not in other.reached():
+        raise Unreached(there)
+
+
+def check_statements(one, other):
+    """Raise Unlike if two analyses have not the same statements."""
+    if one.statements() != other.statements():
+        raise Unlike()
+
+
 def all_maps(analysis):
     """The maps of all statements by their names."""
     return {name: analysis.map_of(name) for name in analysis.statements()}
@@ -26,3 +42,16 @@ def all_maps(analysis):
 def all_outs(program):
     """For each place the tuples (s, n) of the edges that lead from it."""
     return [program.out_of(place) for place in range(program.places)]
+
+
+def named_outs(program):
+    """For each place a dict: to each statement that leads from it the places to which it does so."""
+    rows = [{} for _ in range(program.places)]
+    for m, s, n in program.edges():
+        rows[m].setdefault(s, []).append(n)
+    return rows
+
+
+def led_to(outs, places, name):
+    """The ascending tuple of the places to which a statement leads from some places; outs is named_outs."""
+    return tuple(sorted({to for place in places for to in outs[place].get(name, [])}))

@@ -2,24 +2,32 @@
 
 from factflows.facts import facts_of
 from factflows.fits import all_maps, all_outs, check_fits, check_place
+from factflows.searches import least_word, ways_from
+
+
+def _starts(analysis, program):
+    """The states, tuples (place, value), of the paths without edges."""
+    return [(place, analysis.begin) for place in program.begins()]
+
+
+def _all_ways(analysis, program):
+    """The states that come along paths, each with the tuples (name, state) to which it leads."""
+    maps = all_maps(analysis)
+    outs = all_outs(program)
+
+    def further(state):
+        at, value = state
+        return [(name, (to, maps[name][value])) for name, to in outs[at]]
+
+    return ways_from(_starts(analysis, program), further, None)
 
 
 def _all_path_values(analysis, program):
     """For each place the ascending list of its path values."""
-    maps = all_maps(analysis)
-    outs = all_outs(program)
-    found = [{} for _ in range(program.places)]
-    waiting = [(place, analysis.begin) for place in program.begins()]
-    for place, value in waiting:
-        found[place][value] = True
-    while waiting:
-        place, value = waiting.pop()
-        for name, to in outs[place]:
-            made = maps[name][value]
-            if made not in found[to]:
-                found[to][made] = True
-                waiting.append((to, made))
-    return [sorted(values) for values in found]
+    found = [[] for _ in range(program.places)]
+    for place, value in sorted(_all_ways(analysis, program)):
+        found[place].append(value)
+    return found
 
 
 def path_values(analysis, program, place):
@@ -46,48 +54,11 @@ def lost(analysis, program):
     return [(place, fact, known) for place, fact, known in found if fact != known]
 
 
-def _further(level, came, maps, outs):
-    """The states that come first behind those of a level, with the rank of the words to them.
-
-    A state is a tuple (place, value). The words to the states of one level have one length, and
-    a level tells for each state the rank of the least word to it among these: so words need
-    not be compared whole. came is told how each state comes.
-    """
-    least = {}
-    for place, value in level:
-        for name, to in outs[place]:
-            state = (to, maps[name][value])
-            way = (level[(place, value)], name)
-            if state not in came and (state not in least or way < least[state][0]):
-                least[state] = (way, (place, value))
-    ways = sorted({way for way, _ in least.values()})
-    ranks = {way: at for at, way in enumerate(ways)}
-    for state in least:
-        way, before = least[state]
-        came[state] = (before, way[1])
-    return {state: ranks[least[state][0]] for state in least}
-
-
-def _word_behind(came, state):
-    """The word that led to a state."""
-    names = []
-    while came[state] is not None:
-        state, name = came[state]
-        names.append(name)
-    return tuple(reversed(names))
-
-
 def word_to(analysis, program, place, value):
     """The least of the shortest words of paths to a place that have a path value, or None."""
     check_fits(analysis, program)
     check_place(program, place)
-    maps = all_maps(analysis)
-    outs = all_outs(program)
-    level = {(begin, analysis.begin): 0 for begin in program.begins()}
-    came = {state: None for state in level}
-    while level and (place, value) not in came:
-        level = _further(level, came, maps, outs)
-    return _word_behind(came, (place, value)) if (place, value) in came else None
+    return least_word(_starts(analysis, program), _all_ways(analysis, program), {(place, value): True})
 
 
 def _leading_in(program, place, length):

@@ -270,3 +270,310 @@ def slow_word_to(analysis, program, place, value, longest):
             if analysis.do(word) == value:
                 return word
     return None
+
+
+# Things spoilt, and questions asked again
+
+
+def all_spots(thing, path=()):
+    """The paths of indices to a thing and to all that is in its lists and tuples."""
+    spots = [path]
+    if isinstance(thing, (list, tuple)):
+        for at, part in enumerate(thing):
+            spots += all_spots(part, path + (at,))
+    return spots
+
+
+def changed_at(thing, path, change):
+    """A copy of a thing in which the part at a path is changed."""
+    if not path:
+        return change(thing)
+    parts = list(thing)
+    parts[path[0]] = changed_at(parts[path[0]], path[1:], change)
+    return parts if isinstance(thing, list) else tuple(parts)
+
+
+def spoilt_part(dice, part):
+    """Something near a part: of another kind, or with an item out, more, twice or elsewhere, or another number."""
+    if isinstance(part, bool):
+        return dice.pick([not part, int(part), None])
+    if isinstance(part, int):
+        near = [part + 1, part - 1, 0, -1, 2 ** 80, str(part), None, (part,)]
+        return dice.pick(near + [bool(part)] * 3 if part in (0, 1) else near)
+    if isinstance(part, str):
+        return dice.pick([part + "x", "", "A", part.encode(), None, "a", "b", "ab", "do", "join", 0, (part,)])
+    if isinstance(part, (list, tuple)):
+        return spoilt_row(dice, part)
+    return dice.pick([0, False, True, (), []])
+
+
+def spoilt_row(dice, row):
+    kind = list if isinstance(row, list) else tuple
+    parts = list(row)
+    at, there = dice.below(len(parts) + 1), dice.below(len(parts) + 1)
+    way = dice.below(7)
+    if way == 0:
+        return tuple(row) if kind is list else list(row)
+    if way in (1, 2):
+        return kind(parts[:at] + parts[at + 1:])
+    if way == 3:
+        return kind(parts[:at] + parts[at:at + 1] * 2 + parts[at + 1:])
+    if way == 4 and parts[at:] and parts[there:]:
+        parts[at], parts[there] = parts[there], parts[at]
+        return kind(parts)
+    if way == 5:
+        return kind(parts[:at] + parts[there:there + 1] + parts[at:])
+    return kind(parts[:at] + [dice.pick([None, 0, (), (0, 0), "a", [], (0,), (1, 1)])] + parts[at:])
+
+
+def spoilt(dice, thing):
+    """A thing spoilt at one or two places; by chance it may be right again."""
+    for _ in range(1 + dice.below(2)):
+        thing = changed_at(thing, dice.pick(all_spots(thing)), lambda part: spoilt_part(dice, part))
+    return thing
+
+
+def asked_again(test, ask):
+    """Ask, see that no list stands twice in the answer, spoil the answer, and ask again."""
+    told = ask()
+    wanted = copy.deepcopy(told)
+    no_list_twice(test, told)
+    spoil(told)
+    test.assertEqual(ask(), wanted)
+    return wanted
+
+
+def raised(test, kind, call):
+    """The error of a kind that a call raises."""
+    with test.assertRaises(kind) as caught:
+        call()
+    test.assertIs(type(caught.exception), kind)
+    return caught.exception
+
+
+# Two programs
+
+
+def changed_program(dice, program, names):
+    """A program near another one: with edges out, others in, other begin places, or another order of the places."""
+    edges = [edge for edge in program.edges() if dice.below(6)]
+    for _ in range(dice.below(4)):
+        edges.append((dice.below(program.places), dice.pick(names), dice.below(program.places)))
+    begins = program.begins() + [dice.below(program.places) for _ in range(dice.below(2))]
+    other = Program(program.places, begins, edges)
+    return other.moved(dice.shuffled(range(other.places))) if dice.below(2) else other
+
+
+def some_programs(seed, many, most_places=5, most_edges=12, names=("b", "a", "ab")):
+    """Pairs of programs: drawn, changed, and with statements that only one of the two has."""
+    dice = Dice(seed)
+    for at in range(many):
+        one = some_program(dice, list(names), most_places, most_edges)
+        if at % 3 == 0:
+            theirs = list(names) if at % 2 else list(names[1:]) + ["c"]
+            other = some_program(dice, theirs, most_places, most_edges)
+        else:
+            other = changed_program(dice, one, list(names))
+        yield dice, one, other
+
+
+def reached_edges(program):
+    reached = slow_reached(program)
+    return [edge for edge in program.edges() if edge[0] in reached]
+
+
+def holds_pair(one, other, pairs, pair):
+    """Whether a pair is as a following with some pairs asks for."""
+    m, n = pair
+    if m in one.begins() and n not in other.begins():
+        return False
+    theirs = reached_edges(other)
+    for k, s, to in reached_edges(one):
+        if to == m and not any((k, l) in pairs for l, t, at in theirs if t == s and at == n):
+            return False
+    return True
+
+
+def slow_follow(one, other):
+    """The pairs that are left when those that break what a following asks for are taken out again and again."""
+    pairs = set(product(slow_reached(one), slow_reached(other)))
+    while True:
+        kept = {pair for pair in pairs if holds_pair(one, other, pairs, pair)}
+        if kept == pairs:
+            return sorted(pairs)
+        pairs = kept
+
+
+def slow_ranks(one, other):
+    """For each pair in no following the tuple (rank, why), rank by rank as the document tells."""
+    ranks = {}
+    every = list(product(slow_reached(one), slow_reached(other)))
+    ours, theirs = reached_edges(one), reached_edges(other)
+    for m, n in every:
+        if m in one.begins() and n not in other.begins():
+            ranks[(m, n)] = (0, None)
+    rank = 0
+    while True:
+        rank += 1
+        known = dict(ranks)
+        for m, n in every:
+            whys = [(k, s) for k, s, to in ours if to == m
+                    and all((k, l) in known for l, t, at in theirs if t == s and at == n)]
+            if (m, n) not in known and whys:
+                ranks[(m, n)] = (rank, min(whys))
+        if len(known) == len(ranks):
+            return ranks
+
+
+def has_loop(program):
+    """Whether some places can be led through again; places that nothing leads to are taken out one after another."""
+    left = set(range(program.places))
+    while True:
+        led = {n for m, s, n in program.edges() if m in left and n in left}
+        if left <= led:
+            return bool(left)
+        left &= led
+
+
+def longest_path(program):
+    """How many statements the longest path of a program without loops has."""
+    longest, places = 0, set(program.begins())
+    while True:
+        places = {n for m, s, n in program.edges() if m in places}
+        if not places:
+            return longest
+        longest += 1
+
+
+# Two analyses
+
+
+def known_example():
+    return Analysis(union_joins(2), {"a": [1, 1, 1, 1], "b": [2, 2, 2, 2], "t": [0, 1, 1, 3]})
+
+
+def like_analysis(dice, one):
+    """An analysis near another one: moved, with one map changed, or with values that do not come beside."""
+    way = dice.below(4)
+    if way == 0 and one.statements():
+        name = dice.pick(one.statements())
+        one = one.with_map(name, some_rising(dice, one.joins.rows()))
+    if way == 1 and len(one) <= 12:
+        one = one * Analysis(chain_joins(2), {name: [0, 1] for name in one.statements()}, begin=dice.below(2))
+    return one.moved(dice.shuffled(range(len(one))))
+
+
+def shifting_analysis(dice, digits):
+    """Over sets of digits: one statement brings the lowest digit, one moves digits up, and one brings what is drawn to
+    sets that have all of some."""
+    values = 1 << digits
+    needs = [(dice.below(values), dice.below(values)) for _ in range(1 + dice.below(3))]
+    drawn = [0] * values
+    for need, more in needs:
+        drawn = [made | more if value & need == need else made for value, made in enumerate(drawn)]
+    up = [(value << 1 | value >> digits - 1) & values - 1 for value in range(values)]
+    return Analysis(union_joins(digits), {"a": [1] * values, "b": up, "t": drawn}).moved(dice.shuffled(range(values)))
+
+
+def climbing_analysis(dice, names):
+    """A chain in which statements go up or down by some numbers: so it takes long words and contexts to tell values."""
+    many = 3 + dice.below(5)
+    moves = {name: dice.below(5) - 2 for name in names}
+    maps = {name: [min(max(value + move, 0), many - 1) for value in range(many)] for name, move in moves.items()}
+    return Analysis(chain_joins(many), maps, begin=dice.below(2)).moved(dice.shuffled(range(many)))
+
+
+def some_analyses(seed, many, most=6, names=("b", "a")):
+    """Pairs of analyses with the same statements, with answers of both: tuples (dice, one, mine, other, its)."""
+    dice = Dice(seed)
+    for at in range(many):
+        if at % 5 < 2:
+            one = climbing_analysis(dice, names)
+        elif at % 5 == 2:
+            changes = dict(zip("abt", names))
+            one = shifting_analysis(dice, 3).without([name for name in "abt" if name not in changes]).renamed(changes)
+        else:
+            one = keeping_analysis(dice, list(names)) if at % 2 else some_analysis(dice, list(names), most)
+        if at % 3 == 0:
+            other = some_analysis(dice, list(names), most)
+        else:
+            other = like_analysis(dice, one)
+        yield dice, one, some_answers(dice, one), other, some_answers(dice, other)
+
+
+def some_answers(dice, analysis):
+    """Answers that are all equal, all different, drawn, or told by where a value stands."""
+    many, way = len(analysis), dice.below(5)
+    if way == 0:
+        return ["same"] * many
+    if way == 1:
+        return ["v" + "abcdefgh"[value // 8] + "abcdefgh"[value % 8] for value in range(many)]
+    if way == 2:
+        return ["top" if value == analysis.joins.top() else "low" for value in range(many)]
+    return [dice.pick(["yes", "no", "maybe"][:2 + dice.below(2)]) for _ in range(many)]
+
+
+def slow_layers(one, other):
+    """The layers of the pairs, as [61] tells: what came, what statements make of it, and all joins."""
+    ours, theirs = one.joins.rows(), other.joins.rows()
+    known, layers = {(one.begin, other.begin)}, [[(one.begin, other.begin)]]
+    while True:
+        more = known | {(one.do((s,), value=u), other.do((s,), value=v)) for s in one.statements() for u, v in known}
+        while True:
+            joined = more | {(ours[u][x], theirs[v][y]) for u, v in more for x, y in more}
+            if joined == more:
+                break
+            more = joined
+        if more == known:
+            return layers
+        layers.append(sorted(more - known))
+        known = more
+
+
+# Contexts
+
+
+def slow_coming(analysis):
+    """The least set that has the begin, what statements make, and joins."""
+    values = {analysis.begin}
+    rows = analysis.joins.rows()
+    while True:
+        more = values | {analysis.map_of(s)[u] for s in analysis.statements() for u in values}
+        more |= {rows[u][v] for u in more for v in more}
+        if more == values:
+            return sorted(values)
+        values = more
+
+
+def steps_of_contexts(analysis):
+    """All steps, ascending, with a function each."""
+    rows = analysis.joins.rows()
+    done = [(("do", s), analysis.map_of(s)) for s in analysis.statements()]
+    return done + [(("join", value), rows[value]) for value in slow_coming(analysis)]
+
+
+def slow_context(analysis, answers, value, other):
+    """The first context, shorter ones ahead, ascending, that leads two values to unlike answers, or None."""
+    waiting, seen = [([], value, other)], {(value, other)}
+    while waiting:
+        behind = []
+        for context, u, v in waiting:
+            if answers[u] != answers[v]:
+                return context
+            for step, to in steps_of_contexts(analysis):
+                if (to[u], to[v]) not in seen:
+                    seen.add((to[u], to[v]))
+                    behind.append((context + [step], to[u], to[v]))
+        waiting = behind
+    return None
+
+
+def slow_classes(analysis, answers):
+    """The class of each value, None for one that does not come: by contexts between each value and least members."""
+    classes, members = [None] * len(analysis), []
+    for value in slow_coming(analysis):
+        same = [at for at, least in enumerate(members) if slow_context(analysis, answers, least, value) is None]
+        if not same:
+            members.append(value)
+        classes[value] = same[0] if same else len(members) - 1
+    return classes, members
