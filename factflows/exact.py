@@ -1,8 +1,9 @@
 """The analysis that knows all path values, and whether answers to facts are those to path facts [72]."""
 
-from factflows.analyses import Analysis
 from factflows.errors import TooMany
-from factflows.joins import MOST_VALUES, Joins
+from factflows.families import sets_analysis, united
+from factflows.fits import all_maps
+from factflows.joins import MOST_VALUES
 from factflows.pairs import are_alike
 
 
@@ -20,13 +21,12 @@ def exact_of(analysis):
     if (1 << len(values)) - 1 > MOST_VALUES:
         raise TooMany(MOST_VALUES)
     sets = _all_sets(values)
-    numbers = {some: at for at, some in enumerate(sets)}
-    joins = Joins([[numbers[tuple(sorted(set(some) | set(more)))] for more in sets] for some in sets])
-    maps = {}
-    for name in analysis.statements():
-        to = analysis.map_of(name)
-        maps[name] = [numbers[tuple(sorted({to[value] for value in some}))] for some in sets]
-    return (Analysis(joins, maps, begin=numbers[(analysis.begin,)]), sets)
+    maps = all_maps(analysis)
+
+    def moved(name, some):
+        return tuple(sorted({maps[name][u] for u in some}))
+
+    return (sets_analysis(sets, (analysis.begin,), analysis.statements(), moved, united), sets)
 
 
 def exactness(analysis, answers, *, most=600):

@@ -1,11 +1,11 @@
-"""What is asked of analyses, programs and places that are taken together [4]."""
+"""What is asked of analyses, machines, programs and places that are taken together [4]."""
 
 from factflows.errors import NoPlace, NoStatement, Unlike, Unreached
 from factflows.kinds import is_number
 
 
 def check_fits(analysis, program):
-    """Raise NoStatement for the least statement of the program that the analysis lacks."""
+    """Raise NoStatement for the least statement of the program that the analysis, or the machine, lacks."""
     known = analysis.statements()
     for name in program.statements():
         if name not in known:
@@ -18,18 +18,24 @@ def check_place(program, place):
         raise NoPlace(place)
 
 
+def check_reached(program, places):
+    """Raise Unreached for the first of some places that is not reached."""
+    reached = {place: True for place in program.reached()}
+    for place in places:
+        if place not in reached:
+            raise Unreached(place)
+
+
 def check_places(one, place, other, there):
     """Raise NoPlace, then Unreached, for the first of two places of two programs that is not there."""
     check_place(one, place)
     check_place(other, there)
-    if place not in one.reached():
-        raise Unreached(place)
-    if there not in other.reached():
-        raise Unreached(there)
+    check_reached(one, [place])
+    check_reached(other, [there])
 
 
 def check_statements(one, other):
-    """Raise Unlike if two analyses have not the same statements."""
+    """Raise Unlike if two analyses, or an analysis and a machine, have not the same statements."""
     if one.statements() != other.statements():
         raise Unlike()
 

@@ -6,6 +6,7 @@ from itertools import product
 from factflows.analyses import Analysis
 from factflows.errors import Wrong
 from factflows.joins import Joins, chain_joins, union_joins
+from factflows.machines import Machine
 from factflows.programs import Program
 
 FORK = [[0, 2, 2], [2, 1, 2], [2, 2, 2]]
@@ -17,6 +18,10 @@ def fork():
 
 def parity():
     return Analysis(fork(), {"even": [0, 0, 2], "flip": [1, 0, 2]})
+
+
+def toggle():
+    return Machine(2, [0], {"inc": [(0, 1), (1, 0), (1, 1)], "set": [(0, 0), (1, 0)]})
 
 
 def parity_program():
@@ -53,7 +58,8 @@ def odd_values():
     return [
         None, True, False, -1, -2 ** 80, 2 ** 80, "", "0", "a", "begin", "toolongname", b"a", b"",
         (), {}, (0,), (True,), {"a": 1}, {1: 2}, {None: [0]}, {("a",): 1}, {0}, frozenset([1]), object(), len, int,
-        Joins, Joins([[0]]), Analysis(Joins([[0]]), {}), Program(1, [0], []), Wrong(0), range(3), Ellipsis,
+        Joins, Joins([[0]]), Analysis(Joins([[0]]), {}), Program(1, [0], []), Machine(1, [0], {}), Wrong(0), range(3),
+        Ellipsis,
         nested(20, tuple), nested(20, list), {"a": {"b": {"c": []}}}, [[[0]]], [None], ["a"], [True, False],
         list(range(-10000, 9990)), "x" * 5000,
     ]
@@ -577,3 +583,98 @@ def slow_classes(analysis, answers):
             members.append(value)
         classes[value] = same[0] if same else len(members) - 1
     return classes, members
+
+
+# Machines
+
+
+def some_machine(dice, names, most_states=4):
+    """A machine whose statements lead from each state to none, one or two, or to one from all; or one that counts."""
+    states = 1 + max(dice.below(most_states), dice.below(most_states))
+    if dice.below(4) == 0:
+        order = dice.shuffled(range(states))
+        moves = {name: list(zip(order, order[1:] if at == 0 else order)) for at, name in enumerate(names)}
+        return Machine(states, order[:1], moves)
+    firsts = [dice.below(states) for _ in range(1 + dice.below(2))]
+    moves = {}
+    for name in dice.shuffled(list(names)):
+        if dice.below(5) == 0:
+            there = dice.below(states)
+            moves[name] = [(state, there) for state in range(states)]
+        else:
+            moves[name] = [(state, dice.below(states)) for state in range(states) for _ in range(dice.pick([0, 1, 1, 2]))]
+    return Machine(states, firsts, moves)
+
+
+def some_meanings(dice, joins, machine):
+    """Meanings: each value means what those below it do, and perhaps more."""
+    rows = joins.rows()
+    own = [[state for state in range(machine.states) if dice.below(3) == 0] for _ in rows]
+    return [tuple(sorted({state for u, some in enumerate(own) if is_under(rows, u, v) for state in some}))
+            for v in range(len(rows))]
+
+
+def some_soundness(seed, many, names=("b", "a"), most_states=3):
+    """Analyses with meanings and machines with the same statements: tuples (dice, analysis, meanings, machine).
+
+    Some are drawn, some sound by how they are made: by the sets of a machine, perhaps with something beside.
+    """
+    dice = Dice(seed)
+    for at in range(many):
+        machine = some_machine(dice, names, most_states)
+        if at % 3 == 0:
+            analysis = climbing_analysis(dice, names) if at % 2 else some_analysis(dice, list(names), 6)
+            yield dice, analysis, some_meanings(dice, analysis.joins, machine), machine
+            continue
+        analysis, meanings = all_sets_analysis(machine)
+        if at % 3 == 1:
+            beside = some_analysis(dice, list(names), 4)
+            meanings = [some for some in meanings for _ in range(len(beside))]
+            analysis = analysis * beside
+        if dice.below(2):
+            value, state = dice.pick(slow_sound_pairs(analysis, machine))
+            meanings = meant_less(analysis.joins, meanings, value, state)
+        order = dice.shuffled(range(len(analysis)))
+        yield dice, analysis.moved(order), [meanings[order.index(value)] for value in range(len(order))], machine
+
+
+def meant_less(joins, meanings, value, state):
+    """Meanings by which all values below some value do not mean some state."""
+    below = joins.below(value)
+    return [tuple(at for at in some if at != state or v not in below) for v, some in enumerate(meanings)]
+
+
+def all_sets_analysis(machine):
+    """The analysis of all sets of states, and what its values mean."""
+    sets = [tuple(state for state in range(machine.states) if value >> state & 1) for value in range(1 << machine.states)]
+    maps = {name: [sum(1 << b for b in {b for a, b in machine.moves(name) if a in some}) for some in sets]
+            for name in machine.statements()}
+    return Analysis(union_joins(machine.states), maps, begin=sets.index(tuple(machine.firsts()))), sets
+
+
+def slow_sound_pairs(analysis, machine):
+    """The tuples (value, state) that come, by closing."""
+    pairs = {(analysis.begin, first) for first in machine.firsts()}
+    while True:
+        more = pairs | {(analysis.map_of(s)[v], b) for v, a in pairs for s in machine.statements()
+                        for at, b in machine.moves(s) if at == a}
+        if more == pairs:
+            return sorted(pairs)
+        pairs = more
+
+
+def slow_runs(machine, word):
+    """All runs along a word, ascending."""
+    return [list(run) for run in product(range(machine.states), repeat=len(word) + 1) if run[0] in machine.firsts()
+            and all((a, b) in machine.moves(s) for s, a, b in zip(word, run, run[1:]))]
+
+
+def slow_sets(first, statements, moved, joined):
+    """The ascending list of the sets that come of a first one, by what statements make of them and by joins."""
+    sets = {first}
+    while True:
+        more = sets | {moved(some, name) for some in sets for name in statements}
+        more |= {joined(some, other) for some in more for other in more}
+        if more == sets:
+            return sorted(tuple(sorted(some)) for some in sets)
+        sets = more

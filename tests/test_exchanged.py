@@ -8,10 +8,14 @@ from factflows.follows import are_ranks, follow_of, is_follow, is_within, rank_r
 from factflows.least import is_least_paper, least_of, least_paper, onto, stands_for
 from factflows.likes import least_form, same_values
 from factflows.losses import are_tables, is_fewest, is_loss, loss_of
+from factflows.machines import Machine, collecting, states_at
+from factflows.mirrors import mirror_of, word_mirror
 from factflows.pairs import are_alike, is_closed, made_program, pair_layers, pair_list
 from factflows.patterns import has_pattern, pattern_depth, pattern_of, shown_program
+from factflows.parting import is_parting, parting_of, word_parting
+from factflows.sound import are_sound_pairs, is_unsound, just_for, sound_for
 from factflows.words import are_word_rows, compare_words
-from tests.helper import some_analyses, some_programs
+from tests.helper import some_analyses, some_program, some_programs, some_soundness
 from tests.test_losses import losing_trials, path_words
 
 CHANGES = {"a": "b", "b": "ab", "ab": "a", "c": "d"}
@@ -152,6 +156,105 @@ class AnalysesTest(unittest.TestCase):
             self.assertEqual(are_alike(two, mine, more, its)[:2], are_alike(one, mine, other, its)[:2])
             self.assertEqual(loss_of(two)[0], loss_of(one)[0])
             self.assertEqual(dict(loss_of(two)[-1]), {CHANGES[name]: rows for name, rows in loss_of(one)[-1]})
+
+
+def moved_set(order, some):
+    return tuple(sorted(order[part] for part in some))
+
+
+def moved_machine(order, machine):
+    moves = {name: [(order[a], order[b]) for a, b in machine.moves(name)] for name in machine.statements()}
+    return Machine(machine.states, [order[first] for first in machine.firsts()], moves)
+
+
+def renamed_machine(machine):
+    moves = {CHANGES[name]: machine.moves(name) for name in machine.statements()}
+    return Machine(machine.states, machine.firsts(), moves)
+
+
+class MirrorsTest(unittest.TestCase):
+    NAMES = ["a", "ab", "b", "c"]
+
+    def test_places(self):
+        for dice, one, other in some_programs(807, 80, 4):
+            theirs = dice.shuffled(range(other.places))
+            more = other.moved(theirs)
+            analysis, sets = mirror_of(other, self.NAMES)
+            moved, others = mirror_of(more, self.NAMES)
+            self.assertEqual(others, sorted(moved_set(theirs, some) for some in sets))
+            self.assertEqual(moved, analysis.moved([others.index(moved_set(theirs, some)) for some in sets]))
+            place, there = dice.pick(one.reached()), dice.pick(other.reached())
+            told, its = parting_of(one, place, other, there), parting_of(one, place, more, theirs[there])
+            self.assertIs(told is None, its is None)
+            self.assertIs(is_parting(one, place, more, theirs[there], told), told is not None)
+
+    def test_statements(self):
+        for dice, one, other in some_programs(808, 80, 4):
+            two, more = one.renamed(CHANGES), other.renamed(CHANGES)
+            names = [CHANGES[name] for name in self.NAMES]
+            analysis, sets = mirror_of(other, self.NAMES)
+            self.assertEqual(mirror_of(more, names), (analysis.renamed(CHANGES), sets))
+            word = tuple(dice.pick(self.NAMES) for _ in range(dice.below(5)))
+            analysis, sets = word_mirror(word, self.NAMES)
+            self.assertEqual(word_mirror(tuple(CHANGES[name] for name in word), names), (analysis.renamed(CHANGES), sets))
+            place, there = dice.pick(one.reached()), dice.pick(other.reached())
+            told, its = parting_of(one, place, other, there), parting_of(two, place, more, there)
+            self.assertEqual(its, None if told is None else told.renamed(CHANGES))
+            self.assertIs(word_parting(one, place, other, there) is None, word_parting(two, place, more, there) is None)
+
+
+class MachinesTest(unittest.TestCase):
+    def test_states(self):
+        for dice, analysis, meanings, machine in some_soundness(809, 200):
+            order = dice.shuffled(range(machine.states))
+            other, meant = moved_machine(order, machine), [moved_set(order, some) for some in meanings]
+            program = some_program(dice, ["a", "b"])
+            self.assertEqual(states_at(other, program), [None if states is None else list(moved_set(order, states))
+                                                         for states in states_at(machine, program)])
+            collected, sets = collecting(machine)
+            its, others = collecting(other)
+            self.assertEqual(others, sorted(moved_set(order, some) for some in sets))
+            self.assertEqual(its, collected.moved([others.index(moved_set(order, some)) for some in sets]))
+            told, moved = sound_for(analysis, meanings, machine), sound_for(analysis, meant, other)
+            if told[0] == "sound":
+                pairs = sorted((value, order[state]) for value, state in told[1])
+                self.assertEqual(moved, ("sound", pairs))
+                self.assertTrue(are_sound_pairs(analysis, meant, other, pairs))
+            else:
+                self.assertEqual(moved[:2], told[:2])
+                self.assertTrue(is_unsound(analysis, meant, other, (told[1], [order[state] for state in told[2]])))
+            self.check_just(just_for(analysis, meanings, machine), just_for(analysis, meant, other),
+                            lambda row: (row[0], moved_set(order, row[1])))
+
+    def test_values(self):
+        for dice, analysis, meanings, machine in some_soundness(810, 200):
+            order = dice.shuffled(range(len(analysis)))
+            other, meant = analysis.moved(order), [meanings[order.index(value)] for value in range(len(order))]
+            told, moved = sound_for(analysis, meanings, machine), sound_for(other, meant, machine)
+            if told[0] == "sound":
+                self.assertEqual(moved, ("sound", sorted((order[value], state) for value, state in told[1])))
+            else:
+                self.assertEqual(moved, told)
+            self.check_just(just_for(analysis, meanings, machine), just_for(other, meant, machine),
+                            lambda row: (order[row[0]], row[1]))
+
+    def check_just(self, told, moved, change):
+        self.assertEqual(moved[0], told[0])
+        if told[0] == "just":
+            self.assertEqual(moved[1], sorted(change(row) for row in told[1]))
+
+    def test_statements(self):
+        for _, analysis, meanings, machine in some_soundness(811, 200):
+            other, its = analysis.renamed(CHANGES), renamed_machine(machine)
+            self.assertEqual(collecting(its), (collecting(machine)[0].renamed(CHANGES), collecting(machine)[1]))
+            told, moved = sound_for(analysis, meanings, machine), sound_for(other, meanings, its)
+            self.assertEqual(moved[0], told[0])
+            self.assertEqual(moved[1] if told[0] == "sound" else len(moved[1]),
+                             told[1] if told[0] == "sound" else len(told[1]))
+            if told[0] == "unsound":
+                word = tuple(CHANGES[name] for name in told[1])
+                self.assertTrue(is_unsound(other, meanings, its, (word, told[2])))
+            self.assertEqual(just_for(other, meanings, its)[:2], just_for(analysis, meanings, machine)[:2])
 
 
 if __name__ == "__main__":

@@ -33,6 +33,14 @@ FUNCTIONS = {
               "onto": "(one, mine, other, its, *, most=600)"},
     "exact": {"exact_of": "(analysis)", "exactness": "(analysis, answers, *, most=600)"},
     "likes": {"least_form": "(analysis, answers)", "same_values": "(one, mine, other, its)"},
+    "mirrors": {"mirror_of": "(program, statements, *, most=64)", "word_mirror": "(word, statements, *, most=64)"},
+    "parting": {"parting_of": "(one, place, other, there, *, most=64)",
+                "word_parting": "(one, place, other, there, *, most=64)",
+                "is_parting": "(one, place, other, there, thing)"},
+    "machines": {"states_at": "(machine, program)", "collecting": "(machine)"},
+    "sound": {"sound_for": "(analysis, meanings, machine)", "just_for": "(analysis, meanings, machine)",
+              "are_sound_pairs": "(analysis, meanings, machine, thing)",
+              "is_unsound": "(analysis, meanings, machine, thing)"},
 }
 
 CLASSES = {
@@ -71,6 +79,10 @@ CLASSES = {
         "into": "(self, place)", "out_of": "(self, place)", "reached": "(self)", "leading": "(self, asked)",
         "with_edges": "(self, edges)", "without_edges": "(self, edges)", "with_begins": "(self, places)",
         "turned": "(self, place)", "renamed": "(self, changes)", "moved": "(self, order)", "kept": "(self, places)"},
+    ("machines", "Machine"): {
+        "__init__": "(self, states, firsts, moves)", "__eq__": "(self, other)", "__repr__": "(self)", "states": property,
+        "firsts": "(self)", "statements": "(self)", "moves": "(self, name)", "step": "(self, some, name)",
+        "after": "(self, word)"},
 }
 
 GENERATORS = [("joins", "rising_maps"), ("joins", "all_joins"), ("paths", "words_to")]
