@@ -41,6 +41,13 @@ FUNCTIONS = {
     "sound": {"sound_for": "(analysis, meanings, machine)", "just_for": "(analysis, meanings, machine)",
               "are_sound_pairs": "(analysis, meanings, machine, thing)",
               "is_unsound": "(analysis, meanings, machine, thing)"},
+    "best": {"are_meanings": "(joins, machine, thing)", "best_value": "(joins, meanings, some)",
+             "best_of": "(joins, meanings, machine)"},
+    "small": {"small_program": "(program, asked)", "are_like_places": "(one, places, other, others)"},
+    "notation": {"show_word": "(word)", "show_joins": "(joins)", "show_analysis": "(analysis)",
+                 "show_program": "(program)", "show_deed": "(deed)", "show_log": "(book)", "read_word": "(text)",
+                 "read_joins": "(text)", "read_analysis": "(text)", "read_program": "(text)", "read_deed": "(text)",
+                 "read_log": "(analysis, text)"},
 }
 
 CLASSES = {
@@ -83,6 +90,11 @@ CLASSES = {
         "__init__": "(self, states, firsts, moves)", "__eq__": "(self, other)", "__repr__": "(self)", "states": property,
         "firsts": "(self)", "statements": "(self)", "moves": "(self, name)", "step": "(self, some, name)",
         "after": "(self, word)"},
+    ("book", "Book"): {
+        "__init__": "(self, analysis)", "__eq__": "(self, other)", "__len__": "(self)", "do": "(self, deed)",
+        "back": "(self)", "again": "(self)", "analysis": "(self)", "program": "(self)", "past": "(self, many)",
+        "facts": "(self)", "log": "(self)", "copied": "(self)"},
+    ("desk", "Desk"): {"__init__": "(self, analysis)", "execute": "(self, line)"},
 }
 
 GENERATORS = [("joins", "rising_maps"), ("joins", "all_joins"), ("paths", "words_to")]
