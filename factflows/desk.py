@@ -1,8 +1,7 @@
 """A desk, at which lines change a Book and ask of it [104]."""
 
-from factflows.analyses import Analysis
 from factflows.book import Book
-from factflows.errors import Absent, NoCommand, Wrong
+from factflows.errors import Absent, NoCommand
 from factflows.fits import check_place
 from factflows.follows import is_within
 from factflows.kinds import is_number
@@ -92,8 +91,7 @@ class Desk:
     """A Book, which lines change and ask of."""
 
     def __init__(self, analysis):
-        if not isinstance(analysis, Analysis):
-            raise Wrong(0)
+        # A Book raises Wrong(0) for what is no Analysis.
         self._book = Book(analysis)
 
     def execute(self, line):

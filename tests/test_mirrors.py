@@ -79,6 +79,18 @@ class MirrorOfTest(unittest.TestCase):
         self.assertGreater(sum(size > 4 for size in sizes), 60)
         self.assertGreater(min(empty, full), 20)
 
+    def test_programs_of_twelve_places(self):
+        dice, tried = Dice(904), 0
+        while tried < 40:
+            edges = [(dice.pick([0, 8, dice.below(12)]), dice.pick(NAMES), dice.pick([8, 0, dice.below(12)])) for _ in range(16)]
+            program = Program(12, [8, 0], edges)
+            try:
+                told = mirror_of(program, NAMES)
+            except TooMany:
+                continue
+            self.assertEqual(told, slow_mirror(program, NAMES))
+            tried += 1
+
     def test_the_facts_are_the_places_that_follow(self):
         greater = 0
         for _, one, other in some_programs(901, 250):
@@ -168,6 +180,8 @@ class WordMirrorTest(unittest.TestCase):
                 self.assertEqual(len(word_mirror(word, ["b", "a"], most=many)[1]), many)
                 self.assertEqual(raised(self, TooMany, lambda: word_mirror(word, ["a", "b"], most=many - 1)).limit, many - 1)
         self.assertEqual(len(word_mirror(("a", "b", "a", "c", "b"), ["a", "b", "c"])[1]), 64)
+        for some in word_mirror(("a", "b", "a", "c", "b"), ["a", "b", "c"])[1]:
+            self.assertEqual(list(some), sorted(set(some)))
         for length in (6, 7, 40, 300):
             word = (("a", "b", "c") * length)[:length]
             self.assertEqual(raised(self, TooMany, lambda: word_mirror(word, ["a", "b", "c"])).limit, 64)
